@@ -1,0 +1,1 @@
+"""Markthenpurge: logs behind range purges with delayed deletion."""

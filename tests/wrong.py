@@ -1,0 +1,98 @@
+"""Values of every kind, and those of them that are wrong in some place."""
+
+
+class Stubborn:
+    """A value that refuses every question."""
+
+    def refuse(self, *told):
+        raise RuntimeError("a foreign value was asked")
+
+    __eq__ = __ne__ = __lt__ = __le__ = __gt__ = __ge__ = refuse
+    __len__ = __iter__ = __bool__ = __hash__ = __repr__ = __str__ = refuse
+    __getitem__ = __contains__ = __index__ = __int__ = refuse
+
+
+def looped():
+    rows = []
+    rows.append(rows)
+    return rows
+
+
+def values_of_every_kind():
+    """New values each time, since some of them can be used up."""
+    return [
+        None, True, False, 0, 1, 2, -1, 10 ** 40, 1.0, 0.5, float("nan"), float("inf"), 1j, "", "x", "0", "newest",
+        b"x", bytearray(b"x"), (), [], {}, {0}, frozenset([0]), {0: 1}, {"x": 1}, object(), Stubborn(), int, list,
+        len, lambda: 0, range(2), iter([0]), (i for i in [0]), Ellipsis, NotImplemented, looped(), ValueError("x"),
+        [None], [True], [False], [0.0], ["0"], [Stubborn()], [[0]], [(0,)], (None,), (True,), (0.0,), ((0,),),
+        (Stubborn(),), [-1], (-1,), [10 ** 40], [float("nan")], [{}], [0, None], (0, True), ("x", 0), ("x", 0, 0),
+        ["x", 0], [["x", 0]], [("x",)], [()], ((0, 0),), [[0, 0]], [(0,)], [(0, 0, 0, 0)], [(Stubborn(), 0)],
+        [(0, Stubborn())], ("inside", Stubborn(), 0), ("newest", Stubborn()), (Stubborn(), 0), [(Stubborn(), 0, 0)],
+    ]
+
+
+def all_but(is_right):
+    return [value for value in values_of_every_kind() if not is_right(value)]
+
+
+def wrong_integers(low, high):
+    """Values that are not integers from low to high."""
+    return all_but(lambda value: type(value) is int and low <= value <= high) + [low - 1, high + 1, float(low)]
+
+
+def wrong_logs():
+    keys = ["", "abcdefghi", "X", "xY", "x1", "x y", "x\n", "\u00e9", "\u0131", "x=", None, 1, True, b"x", ["x"]]
+    values = [True, False, 1.0, "1", "", (), [], (None,), float("nan"), b"1"]
+    records = [(key, 1) for key in keys] + [("x", value) for value in values]
+    records += [("x",), ("x", 1, 2), (), ["x", 1], "xy", {"x": 1}, {"x", 1}, None, 5, (1, "x"), [("x", 1)]]
+    found = all_but(is_empty_list) + [(("x", 1),), {("x", 1): 1}, {("x", 1)}, iter([("x", 1)])]
+    return found + [[record] for record in records] + [[("x", 1), record] for record in records]
+
+
+def is_empty_list(value):
+    return type(value) is list and len(value) == 0
+
+
+def wrong_positions(many):
+    """Values that are not a list or tuple of positions of a log with this many records."""
+
+    def is_right(value):
+        return type(value) in (list, tuple) and all(type(part) is int and 0 <= part < many for part in value)
+
+    found = [[many], (many,), [0, many], [1, -1], [0, True], [False, 1], [0, 1.0], [0, "1"], [0, [1]], [[0], [1]]]
+    return all_but(is_right) + found + [range(many), {0, 1}, {0: 0}, "01", b"\x00", iter([0]), {0: 0}.keys()]
+
+
+def wrong_ranges(many):
+    """Values that are not a list of ranges of a log with this many records, two at the least."""
+    parts = [
+        (0, many), (many, many), (-1, 0), (-1, -1), (1, 0), (True, 1), (0, True), (False, False), (0.0, 1), (0, 1.0),
+        (0, None), (None, 0), ("0", "1"), (0,), (), (0, 1, 1), [0, 1], {0, 1}, "01", 0, None, True, range(0, 2),
+        ((0, 1),), [(0, 1)], (0, 10 ** 40), (-10 ** 40, 0),
+    ]
+    found = all_but(is_empty_list) + [((0, 0),), {(0, 0)}, {(0, 0): 1}, iter([(0, 0)]), (0, 0), [0, 0]]
+    return found + [[part] for part in parts] + [[(0, 1), part] for part in parts]
+
+
+def wrong_walls(many):
+    """Values that are not a list or tuple of walls of a log with this many records, three at the least."""
+
+    def is_right(value):
+        return type(value) in (list, tuple) and all(type(part) is int and 1 <= part < many for part in value)
+
+    found = [[0], [many], (1, many), [2, 0], [True], (True, 2), [1.0], ["1"], [None], [[1]], [(1,)], [-1]]
+    return all_but(is_right) + found + [range(1, many), {1, 2}, {1: 1}, "12", b"\x01", iter([1])]
+
+
+def wrong_seen_reads():
+    """Values that are not a list of seen reads of the log x y x."""
+    parts = [
+        ("x", 3, None), ("x", -1, None), ("x", True, None), ("x", 0.0, None), ("x", None, None), ("x", "0", None),
+        ("x", 10 ** 40, None), ("x", 1, 2), ("x", 2, 3), ("x", 2, -1), ("x", 2, True), ("x", 2, False),
+        ("x", 2, 0.0), ("x", 2, "0"), ("x", 2, [0]), ("x", 2, 10 ** 40), ("x", 2, 1), ("y", 2, 2), ("y", 0, 1),
+        ("z", 2, 0), ("", 2, None), ("X", 2, None), ("x1", 2, None), ("abcdefghi", 2, None), (1, 2, None),
+        (None, 2, None), (b"x", 2, None), (["x"], 2, None), ("x", 2), ("x",), (), ("x", 2, None, None),
+        ["x", 2, None], {"x", 2, None}, "xyz", None, 5, True, {"x": 2}, [("x", 2, None)], (("x", 2, None),),
+    ]
+    found = all_but(is_empty_list) + [(("x", 2, None),), {("x", 2, None)}, {("x", 2, None): 1}, ("x", 2, None)]
+    return found + [[part] for part in parts] + [[("x", 2, None), part] for part in parts]
