@@ -125,6 +125,21 @@ class Facts:
         return self.plus(gone=gone, kept=kept)
 
 
+def nexts_of(facts):
+    """For each position the first later one with its key, None if it is newest."""
+    return list(facts._nexts)
+
+
+def ends_of(facts):
+    """For each position a the greatest b for which (a, b) is allowed."""
+    return list(facts._ends)
+
+
+def ends_without(facts, positions):
+    """For each position a the greatest b for which (a, b) keeps the rules and marks none of these positions."""
+    return last_allowed(facts._nexts, positions, facts._longest, facts._walls)
+
+
 def arc_inside(nexts, j, i):
     """Whether both positions have arcs and the one of j lies inside the one of i."""
     if nexts[j] is None or nexts[i] is None:

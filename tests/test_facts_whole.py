@@ -1,37 +1,11 @@
 """Points 5 (a), 8, 9 and 10 against answers that are found by trying everything."""
 
-import random
 import unittest
 
 from markthenpurge.errors import NoResult
 from markthenpurge.facts import Facts, allowed, conflict, greatest, is_result, least, reach, shows_conflict
-from tests.small import all_conflicts, all_papers, all_ranges, all_results, is_allowed, log_of, logs_up_to, patterns
-from tests.small import subsets
-
-
-def cases_of_small_logs():
-    """All facts of all logs with at most three records."""
-    for log in logs_up_to(3):
-        positions = subsets(range(len(log)))
-        for gone in positions:
-            for kept in positions:
-                for longest in [None] + list(range(1, len(log) + 1)):
-                    for walls in subsets(range(1, len(log))):
-                        yield (log, gone, kept, longest, walls)
-
-
-def some_cases(many):
-    """Some facts of logs with four to seven records, always the same ones."""
-    chance = random.Random(7)
-    words = {size: patterns(size) for size in range(4, 8)}
-    for _ in range(many):
-        size = chance.randint(4, 7)
-        log = log_of(chance.choice(words[size]))
-        gone = [i for i in range(size) if chance.random() < 0.15]
-        kept = [i for i in range(size) if chance.random() < 0.2]
-        longest = chance.choice([None, None] + list(range(1, size + 2)))
-        walls = [w for w in range(1, size) if chance.random() < 0.12]
-        yield (log, gone, kept, longest, walls)
+from tests.cases import cases_of_small_logs, some_cases
+from tests.small import all_conflicts, all_papers, all_ranges, all_results, is_allowed, logs_up_to, subsets
 
 
 class Whole(unittest.TestCase):

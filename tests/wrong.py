@@ -96,3 +96,13 @@ def wrong_seen_reads():
     ]
     found = all_but(is_empty_list) + [(("x", 2, None),), {("x", 2, None)}, {("x", 2, None): 1}, ("x", 2, None)]
     return found + [[part] for part in parts] + [[("x", 2, None), part] for part in parts]
+
+
+def wrong_amounts(many):
+    """Values that are not lists with an integer from 0 on for each of this many positions, one or more."""
+    parts = [-1, True, False, None, 1.0, "1", [1], (1,), float("nan"), -10 ** 40, 1j, b"1", {}]
+    right = [1] * (many - 1)
+    found = [value for value in values_of_every_kind() if type(value) is not list or len(value) != many]
+    found += [[1] * (many - 1), [1] * (many + 1), (1,) * many, range(many), {i: 1 for i in range(many)}]
+    found += [iter([1] * many), {*range(many)}, "1" * many, b"1" * many]
+    return found + [[part] + right for part in parts] + [right + [part] for part in parts]
