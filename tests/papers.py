@@ -4,6 +4,9 @@ from tests.search import allowed_by, ascend, corners_of, is_allowed_by, keeps_ru
 from tests.small import all_results, marks_of, marks_of_all, next_of
 
 FOREIGN = [True, False, None, 1.0, "1", (1,), [1]]
+NAMES = [
+    "newest", "long", "wall", "inside", "report", "apart", "pair", "circle", "late", "gone", "behind", "kept", "empty",
+]
 
 
 def is_whole(value):
@@ -123,9 +126,11 @@ def shows_fewest_of_by_words(log, ranges, number, value):
 
 
 def bent_parts(value):
-    """Values unlike this one, each of them bent at one place: a number, or a list or tuple at any depth."""
+    """Values unlike this one, each of them bent at one place: a number, a name, or a list or tuple at any depth."""
     if is_whole(value):
         return [value - 1, value + 1, value - 10 ** 40, value + 10 ** 40, -value - 1] + FOREIGN
+    if type(value) is str:
+        return [name for name in NAMES if name != value] + ["", value + " ", value.upper(), [value], 0, None, True]
     kind = type(value)
     rows = list(value)
     found = [tuple(rows) if kind is list else rows, kind(rows + [0]), kind(rows + rows[-1:] + [5]), [rows], (rows,)]

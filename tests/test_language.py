@@ -1,6 +1,7 @@
 """Some rules of the language of the package that are easily judged by its files."""
 
 import ast
+import builtins
 import os
 import unittest
 
@@ -77,7 +78,8 @@ class Language(unittest.TestCase):
             self.assertEqual([word for word in bound_names(tree) if word in imported], [], name)
 
     def test_names_of_builtins(self):
-        foreign = set(dir(__builtins__) if not isinstance(__builtins__, dict) else __builtins__) - set(BUILTINS)
+        # Examples that are run in a test put "_" among the builtins.
+        foreign = set(dir(builtins)) - set(BUILTINS) - {"_"}
         for name, tree in trees().items():
             used = [node.id for node in ast.walk(tree) if isinstance(node, ast.Name)]
             self.assertEqual([word for word in used if word in foreign], [], name)
@@ -89,6 +91,24 @@ class Language(unittest.TestCase):
             for node in ast.walk(tree):
                 if isinstance(node, ast.Call) and isinstance(node.func, ast.Attribute):
                     self.assertIn(node.func.attr, METHODS + own, name)
+
+    def test_properties_have_names_of_their_own(self):
+        found = [node for tree in trees().values() for node in ast.walk(tree) if isinstance(node, ast.ClassDef)]
+        methods = [part for node in found for part in node.body if isinstance(part, ast.FunctionDef)]
+        properties = [part.name for part in methods if part.decorator_list]
+        others = [part.name for part in methods if not part.decorator_list]
+        self.assertEqual([name for name in properties if name in others or name in METHODS], [])
+
+    def test_no_files_import_from_each_other(self):
+        found = {name[:-3]: [] for name in sources()}
+        for name, tree in trees().items():
+            homes = [node.module for node in ast.walk(tree) if isinstance(node, ast.ImportFrom)]
+            found[name[:-3]] = [home.split(".")[1] for home in homes if home not in LIBRARY]
+        while found:
+            free = [name for name, homes in found.items() if not any(home in found for home in homes)]
+            self.assertNotEqual(free, [], found)
+            for name in free:
+                del found[name]
 
     def test_nodes_that_stand_nowhere(self):
         barred = (ast.GeneratorExp, ast.AsyncFunctionDef, ast.Div, ast.Global, ast.JoinedStr, ast.AnnAssign)

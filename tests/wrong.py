@@ -106,3 +106,43 @@ def wrong_amounts(many):
     found += [[1] * (many - 1), [1] * (many + 1), (1,) * many, range(many), {i: 1 for i in range(many)}]
     found += [iter([1] * many), {*range(many)}, "1" * many, b"1" * many]
     return found + [[part] + right for part in parts] + [right + [part] for part in parts]
+
+
+def wrong_reports(many):
+    """Values that are not a list of reports of a log with this many records, three at the least."""
+    ends = [-1, many, True, False, None, 1.0, "1", 10 ** 40, [0, 1], (0,), (), (0, 1, 2), (1, 0), (-1, 1), (0, many)]
+    ends += [(True, 1), (0, True), (0.0, 1), (None, 1), (0, "1"), ((0, 1), 1), ([0], 1), {0, 1}, {0: 1}, range(2)]
+    parts = [(end, 2) for end in ends] + [(0, end) for end in ends] + [((0, 2), end) for end in ends]
+    parts += [(end, (0, 2)) for end in ends] + [((0, 1), (1, 2)), ((0, 0), (0, 0)), ((0, 1), (0, 1))]
+    parts += [(2, 1), (2, (0, 1)), ((1, 2), 0), [0, 1], [0, (0, 1)], (0, 1, 2), (0,), (), 0, None, True, "01", {0, 1}]
+    parts += [((0, 1),), [(0, 1)], Stubborn(), (Stubborn(), 1), (1, Stubborn()), (0, (Stubborn(), 1))]
+    found = all_but(is_empty_list) + [((0, 1),), ((0, (0, 1)),), {(0, 1)}, {(0, 1): 1}, iter([(0, 1)]), (0, 1)]
+    return found + [[part] for part in parts] + [[(0, (0, 2)), part] for part in parts]
+
+
+def wrong_rounds(many):
+    """Values that are not a list of lists of ranges of a log with this many records, two at the least."""
+    parts = [part for part in wrong_ranges(many) if type(part) is not list or len(part) > 0]
+    found = all_but(is_empty_list) + [([(0, 0)],), {0: [(0, 0)]}, iter([[(0, 0)]]), [(0, 0)], [((0, 0),)], [None]]
+    return [value for value in found if not is_list_of_empty_lists(value)] + [[part] for part in parts] + [
+        [[(0, 1)], part] for part in parts
+    ]
+
+
+def is_list_of_empty_lists(value):
+    return type(value) is list and all(is_empty_list(part) for part in value)
+
+
+def wrong_bounds(gone, other):
+    """Values that are not a list or tuple of bounds of these positions, of which the other one is none."""
+    i = gone[0]
+    parts = [
+        (i, 0, None), (i, -1, 3), (i, 1, 0), (i, 3, 2), (i, True, None), (i, 1, True), (i, True, True), (i, 1.0, None),
+        (i, 1, 2.0), (i, None, None), (i, None, 2), (i, "1", None), (i, 1, "2"), (i, [1], None), (i, 1, [2]),
+        (other, 1, None), (-1, 1, None), (10 ** 40, 1, None), (True, 1, None), (float(i), 1, None), (None, 1, None),
+        (str(i), 1, None), ([i], 1, None), (i, 1), (i,), (), (i, 1, None, None), [i, 1, None], {i, 1}, i, None, True,
+        "abc", ((i, 1, None),), [(i, 1, None)], (Stubborn(), 1, None), (i, Stubborn(), None), (i, 1, Stubborn()),
+    ]
+    found = all_but(lambda value: type(value) in (list, tuple) and len(value) == 0)
+    found += [{(i, 1, None)}, {(i, 1, None): 1}, iter([(i, 1, None)]), (i, 1, None), [i, 1, None]]
+    return found + [[part] for part in parts] + [((i, 1, None), part) for part in parts]
