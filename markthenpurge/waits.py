@@ -108,7 +108,8 @@ def in_order(steps):
     found = [p for p in steps if missing[p] == 0]
     done = 0
     while done < len(found):
-        for p in waiting[found[done]]:
+        ready = found[done]
+        for p in waiting[ready]:
             missing[p] = missing[p] - 1
             if missing[p] == 0:
                 found.append(p)
@@ -152,7 +153,9 @@ class Schedule:
         # Steps that count 0 lead to arcs that end earlier, so each circle has a step that counts 1.
         chain = left[:1]
         while chain[-1] not in chain[:-1]:
-            chain.append([q for q, _ in self._steps[chain[-1]] if q in left][0])
+            last = chain[-1]
+            ahead = [q for q, _ in self._steps[last] if q in left]
+            chain.append(ahead[0])
         return chain[chain.index(chain[-1]):]
 
     def bar(self):

@@ -146,3 +146,16 @@ def wrong_bounds(gone, other):
     found = all_but(lambda value: type(value) in (list, tuple) and len(value) == 0)
     found += [{(i, 1, None)}, {(i, 1, None): 1}, iter([(i, 1, None)]), (i, 1, None), [i, 1, None]]
     return found + [[part] for part in parts] + [((i, 1, None), part) for part in parts]
+
+
+def wrong_reads():
+    """Values that are not a list of reads of the log x y x."""
+    parts = [
+        ("x", 3), ("x", -1), ("x", True), ("x", False), ("x", 0.0), ("x", None), ("x", "0"), ("x", [0]),
+        ("x", 10 ** 40), ("", 2), ("X", 2), ("x1", 2), ("x y", 2), ("abcdefghi", 2), (1, 2), (None, 2), (b"x", 2),
+        (["x"], 2), ("\u00e9", 2),
+        ("x",), (), ("x", 2, None), ["x", 2], {"x", 2}, "x2", None, 5, True, {"x": 2}, [("x", 2)], (("x", 2),),
+        Stubborn(), (Stubborn(), 2), ("x", Stubborn()),
+    ]
+    found = all_but(is_empty_list) + [(("x", 2),), {("x", 2)}, {("x", 2): 1}, ("x", 2), iter([("x", 2)])]
+    return found + [[part] for part in parts] + [[("x", 2), part] for part in parts]
